@@ -1,0 +1,57 @@
+package skein_test
+
+import (
+	"sync"
+	"testing"
+
+	"skein/api"
+	"skein/skein"
+)
+
+// texts are all of three parts each, with bytes and signs of every kind among them.
+func texts() []string {
+	parts := []string{"", " ", "\n", "\x00", "\xff", "é", "A", "[", "]", "[]", "(", ")", "1", "12345678901", "x", "abcdefg", "let ", "let x = ", " in ", "if ", " then ", " else ", "head ", `\`, `\x. `, ".", "=", "<", "+", "-", "*", ":"}
+	for c := range 256 {
+		parts = append(parts, string([]byte{byte(c)}))
+	}
+	var all []string
+	for _, first := range parts {
+		for _, second := range parts {
+			all = append(all, first+second, first+second+first, first+second+"1", "let x = "+first+" in "+second)
+		}
+	}
+	return all
+}
+
+func TestCallsEndAndFit(t *testing.T) {
+	for _, text := range texts() {
+		err, place := skein.Check(text)
+		plain, shown := skein.Show(text)
+		if shown != err || (plain == "") != (err != api.OK) {
+			t.Errorf("P1: Show(%q) = %q, %d, but Check answers %d", text, plain, shown, err)
+		}
+		if place < 0 || place > len(text) || err == api.OK && place != 0 {
+			t.Errorf("P1: Check(%q) = %d, %d", text, err, place)
+		}
+	}
+}
+
+func TestCallsHangOnArgumentsAlone(t *testing.T) {
+	text := `let x = 1 in \y. x y : head []`
+	want, _ := skein.Show(text)
+	var group sync.WaitGroup
+	for range 8 {
+		group.Go(func() {
+			for _, other := range []string{"x", "", "(", `\x. x`, text} {
+				skein.Check(other)
+				if got, err := skein.Show(text); got != want || err != api.OK {
+					t.Errorf("P2: Show(%q) = %q, %d, want %q", text, got, err, want)
+				}
+				if err, place := skein.Check("x y"); err != api.ErrName || place != 0 {
+					t.Errorf("P2: Check(x y) = %d, %d", err, place)
+				}
+			}
+		})
+	}
+	group.Wait()
+}
