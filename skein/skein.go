@@ -4,6 +4,7 @@ package skein
 import (
 	"skein/api"
 	"skein/fault"
+	"skein/need"
 	"skein/parse"
 	"skein/tree"
 )
@@ -23,11 +24,30 @@ func Show(text string) (string, api.Errno) {
 	return whole.Plain(), api.OK
 }
 
-// Eval tells what an expression is (P5).
-func Eval(text string, limit int) api.Answer { return api.Answer{} }
+// Eval tells what an expression is, reckoned in at most limit steps (P5).
+func Eval(text string, limit int) api.Answer {
+	whole, wrong := read(text)
+	if wrong.Err != api.OK {
+		return api.Answer{Err: wrong.Err}
+	}
+	if limit < 0 || limit > api.MaxSteps {
+		return api.Answer{Err: api.ErrLimit}
+	}
+	return reckon(whole, limit)
+}
 
 // read is where a panic of reading ends.
 func read(text string) (whole tree.Node, wrong fault.Fault) {
 	defer func() { wrong = fault.Caught(recover()) }()
 	return parse.Whole(text), fault.Fault{}
+}
+
+// reckon is where a panic of reckoning ends: the steps are told whether it went wrong or not.
+func reckon(whole tree.Node, limit int) (answer api.Answer) {
+	steps := need.Steps{Limit: limit}
+	defer func() {
+		wrong := fault.Caught(recover())
+		answer.Steps, answer.Err = steps.Counted, wrong.Err
+	}()
+	return api.Answer{Text: need.Text(whole, &steps)}
 }
