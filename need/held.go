@@ -15,8 +15,9 @@ const (
 	known                // has become a value
 )
 
-// held is what a name stands for: an expression with what its own names stand
-// for, until it is needed; then its value, wherever the name stands.
+// held is what a name stands for, or the first or the rest of a list: an
+// expression with what its own names stand for, until it is needed; then its
+// value, wherever it is asked for.
 type held struct {
 	state state
 	code  code

@@ -4,11 +4,7 @@
 // stand for, and only where the document says that their expression is needed.
 package need
 
-import (
-	"skein/api"
-	"skein/fault"
-	"skein/tree"
-)
+import "skein/tree"
 
 // code is an expression made ready: to call it is to need the expression.
 type code func(names scope) value
@@ -16,14 +12,15 @@ type code func(names scope) value
 // Text is the value of the whole expression, told as text. It panics with a
 // fault.Fault if that goes wrong; what was counted by then stands in steps.
 func Text(whole tree.Node, steps *Steps) string {
-	m := maker{steps: steps, signs: signs()}
-	return m.code(whole)(nil).text()
+	m := maker{steps: steps, signs: signs(), parts: parts()}
+	return m.code(whole)(nil).text(steps)
 }
 
 // maker has what the closures share.
 type maker struct {
 	steps *Steps
 	signs []sign
+	parts []part
 }
 
 func (m maker) code(node tree.Node) code {
@@ -42,13 +39,16 @@ func (m maker) code(node tree.Node) code {
 		return m.choice(node)
 	case tree.Reckon:
 		return m.reckon(node)
+	case tree.Empty:
+		return m.empty()
+	case tree.List:
+		return m.list(node)
+	case tree.Part:
+		return m.part(node)
 	}
-	return noList
+	// The parser makes no other.
+	panic("need: a node of no known kind")
 }
-
-// noList stands in for what has to do with lists, of which there are none yet:
-// so it goes wrong where it is needed, and nowhere else.
-func noList(scope) value { panic(fault.Fault{Err: api.ErrType}) }
 
 func (m maker) number(node tree.Number) code {
 	known := number(node.Value)
@@ -104,4 +104,23 @@ func (m maker) reckon(node tree.Reckon) code {
 		b := as[number](right(names))
 		return work(a, b)
 	}
+}
+
+func (m maker) empty() code {
+	return func(scope) value { return list{} }
+}
+
+func (m maker) list(node tree.List) code {
+	first, rest := m.code(node.First), m.code(node.Rest)
+	return func(names scope) value {
+		return list{
+			first: &held{code: first, names: names},
+			rest:  &held{code: rest, names: names},
+		}
+	}
+}
+
+func (m maker) part(node tree.Part) code {
+	ask, whole := m.ask(node.Word), m.code(node.List)
+	return func(names scope) value { return ask(as[list](whole(names))) }
 }

@@ -9,7 +9,8 @@ import (
 
 // value is what an expression becomes when it is needed.
 type value interface {
-	text() string
+	// text needs the parts of a list, so it counts steps, and may go wrong.
+	text(steps *Steps) string
 }
 
 type number int64
@@ -17,9 +18,9 @@ type number int64
 // function takes what its name is to stand for.
 type function func(argument *held) value
 
-func (n number) text() string { return strconv.FormatInt(int64(n), 10) }
+func (n number) text(*Steps) string { return strconv.FormatInt(int64(n), 10) }
 
-func (f function) text() string { return "<function>" }
+func (f function) text(*Steps) string { return "<function>" }
 
 // as is the value as what it is needed as.
 func as[Kind value](it value) Kind {

@@ -10,7 +10,7 @@ import (
 
 // texts are all of three parts each, with bytes and signs of every kind among them.
 func texts() []string {
-	parts := []string{"", " ", "\n", "\x00", "\xff", "é", "A", "[", "]", "[]", "(", ")", "1", "12345678901", "x", "abcdefg", "let ", "let x = ", " in ", "if ", " then ", " else ", "head ", `\`, `\x. `, ".", "=", "<", "+", "-", "*", ":"}
+	parts := []string{"", " ", "\n", "\x00", "\xff", "é", "A", "[", "]", "[]", "(", ")", "1", "12345678901", "x", "abcdefg", "let ", "let x = ", " in ", "if ", " then ", " else ", "head ", "tail ", "null ", `\`, `\x. `, ".", "=", "<", "+", "-", "*", ":"}
 	for c := range 256 {
 		parts = append(parts, string([]byte{byte(c)}))
 	}
@@ -55,10 +55,11 @@ func TestCallsHangOnArgumentsAlone(t *testing.T) {
 	text := `let x = 1 in \y. x y : head []`
 	want, _ := skein.Show(text)
 	steps := `let f = \n. if n then n * f (n - 1) else 1 in f 5`
+	list := `let l = (\x. x) 1 : l in head tail l : []`
 	var group sync.WaitGroup
 	for range 8 {
 		group.Go(func() {
-			for _, other := range []string{"x", "", "(", `\x. x`, `(\x. x x) (\x. x x)`, "let x = x in x", text} {
+			for _, other := range []string{"x", "", "(", `\x. x`, `(\x. x x) (\x. x x)`, "let x = x in x", "let l = 1 : l in l", text} {
 				skein.Check(other)
 				if got, err := skein.Show(text); got != want || err != api.OK {
 					t.Errorf("P2: Show(%q) = %q, %d, want %q", text, got, err, want)
@@ -69,6 +70,9 @@ func TestCallsHangOnArgumentsAlone(t *testing.T) {
 				skein.Eval(other, 2)
 				if got := skein.Eval(steps, 6); got != (api.Answer{Text: "120", Steps: 6}) {
 					t.Errorf("P2: Eval(%q, 6) = %+v", steps, got)
+				}
+				if got := skein.Eval(list, 2); got != (api.Answer{Text: "[1]", Steps: 2}) {
+					t.Errorf("P2: Eval(%q, 2) = %+v", list, got)
 				}
 			}
 		})

@@ -22,13 +22,16 @@ func checkEval(t *testing.T, text string, limit int, want api.Answer) {
 	}
 }
 
-// checkEvals asks with all steps that may be, with just enough, and with every number that is too small.
+// checkEvals asks with all steps that may be, with just enough, and with every number that is too small;
+// and it asks the plain form.
 func checkEvals(t *testing.T, cases []evalCase) {
 	t.Helper()
 	for _, c := range cases {
 		want := api.Answer{Text: c.told, Steps: c.steps, Err: c.err}
 		checkEval(t, c.text, api.MaxSteps, want)
 		checkEval(t, c.text, c.steps, want)
+		checkPlainForm(t, c.text, api.MaxSteps)
+		checkPlainForm(t, c.text, c.steps/2)
 		for limit := range c.steps {
 			checkEval(t, c.text, limit, api.Answer{Steps: limit, Err: api.ErrSteps})
 		}
